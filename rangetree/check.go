@@ -2,7 +2,7 @@ package rangetree
 
 import "estovers/api"
 
-// every reports whether a condition holds for t and for every tree inside of it. It does not recur, and leaves out lists of kids that it has visited, since a tree of any form can be very deep, and a list of kids can contain itself.
+// every reports whether a condition holds for t and for every tree inside of it. It is not recursive, and leaves out lists of kids that it has visited, since a tree of any form can be very deep, and a list of kids can contain itself.
 func every(t api.RegionTree, holds func(api.RegionTree) bool) bool {
 	seen := map[*api.RegionTree]bool{}
 	rest := []*api.RegionTree{&t}
